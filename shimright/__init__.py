@@ -1,0 +1,1 @@
+"""Shimright: parts made within bounds, and shims chosen when they are there."""
