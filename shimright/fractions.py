@@ -2,6 +2,9 @@
 
 from shimright.errors import NoNumber
 
+ZERO = (0, 1)
+ONE = (1, 1)
+
 
 def is_whole(thing):
     # True and False are ints to Python, but no whole numbers here.
@@ -45,6 +48,10 @@ def plus(q, r):
 
 def minus(q, r):
     return fraction(q[0] * r[1] - r[0] * q[1], q[1] * r[1])
+
+
+def opposite(q):
+    return (-q[0], q[1])
 
 
 def times(q, r):

@@ -1,6 +1,6 @@
 """Plans: what is one, which made sets and choices fit it, and what its demands are worth."""
 
-from shimright.fractions import below, is_fraction, is_tuple_of, plus, times
+from shimright.fractions import ZERO, below, is_fraction, is_tuple_of, plus, times
 
 
 def is_bounds(thing):
@@ -53,7 +53,7 @@ def within_bounds(bounds, told):
 
 
 def weighed_sum(factors, told):
-    total = (0, 1)
+    total = ZERO
     for factor, q in zip(factors, told):
         total = plus(total, times(factor, q))
     return total
@@ -71,4 +71,4 @@ def worths(plan, made, choice):
 def fits(plan, made, choice):
     if not within_bounds(plan[0], made) or not within_bounds(plan[1], choice):
         return False
-    return not any([below(worth, (0, 1)) for worth in worths(plan, made, choice)])
+    return not any([below(worth, ZERO) for worth in worths(plan, made, choice)])

@@ -8,18 +8,10 @@ from fractions import Fraction
 
 from shimright.errors import NoChoice, NoNumber, ShimError
 from shimright.fractions import below, fraction, minus, over, plus, show, times
+from tests.helpers import EIGHTY, pair, value
 
-EIGHTY = 10 ** 80 - 1
 BOTTOMS = (1, 2, 3, 4, 6, 9)
 SMALL = [(top, low) for top in range(-7, 8) for low in BOTTOMS if Fraction(top, low).denominator == low]
-
-
-def pair(value):
-    return (value.numerator, value.denominator)
-
-
-def value(q):
-    return Fraction(q[0], q[1])
 
 
 def long_fractions():

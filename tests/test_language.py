@@ -54,6 +54,44 @@ def bound_names(tree):
             yield node.id
 
 
+WALKED = ("zip", "enumerate", "reversed", "range")
+WALKERS = ("list", "tuple", "dict", "sorted", "sum", "any", "all", "enumerate", "zip", "min", "max")
+
+
+def is_walk(node):
+    if not isinstance(node, ast.Call):
+        return False
+    if isinstance(node.func, ast.Attribute):
+        return node.func.attr in ("items", "keys", "values")
+    return isinstance(node.func, ast.Name) and node.func.id in WALKED
+
+
+def walked_on_the_spot(tree):
+    """Everything that stands where something is walked at once."""
+    for node in ast.walk(tree):
+        if isinstance(node, (ast.For, ast.comprehension)):
+            yield node.iter
+        if isinstance(node, ast.Call) and isinstance(node.func, ast.Name) and node.func.id in WALKERS:
+            yield from node.args if node.func.id == "zip" else node.args[:1]
+        if isinstance(node, ast.Call) and isinstance(node.func, ast.Attribute) and node.func.attr == "join":
+            yield node.args[0]
+
+
+def defined_at_top(tree):
+    for node in tree.body:
+        if isinstance(node, (ast.FunctionDef, ast.ClassDef)):
+            yield node.name
+        if isinstance(node, ast.Assign):
+            yield node.targets[0].id
+
+
+def bound_in_defs(tree):
+    for node in tree.body:
+        if isinstance(node, (ast.FunctionDef, ast.ClassDef)):
+            for part in node.body + ([node.args] if isinstance(node, ast.FunctionDef) else []):
+                yield from bound_names(part)
+
+
 class LanguageTest(unittest.TestCase):
     def setUp(self):
         self.texts = {path.name: path.read_text(encoding="utf-8") for path in package_files()}
@@ -118,6 +156,46 @@ class LanguageTest(unittest.TestCase):
                     self.assertEqual(node.level, 0, name)
                     self.assertRegex(node.module, r"^(shimright\.\w+|__future__)$", name)
                     self.assertNotIn("*", [alias.name for alias in node.names], name)
+
+    def imports(self, tree):
+        return [node for node in tree.body if isinstance(node, ast.ImportFrom) and node.module != "__future__"]
+
+    def test_imports_come_from_where_the_name_is_defined(self):
+        for name, tree in self.trees.items():
+            for node in self.imports(tree):
+                defined = list(defined_at_top(self.trees[node.module.split(".")[1] + ".py"]))
+                for alias in node.names:
+                    self.assertIn(alias.name, defined, name)
+                    self.assertIsNone(alias.asname, name)
+
+    def test_no_two_files_draw_from_one_another(self):
+        drawn = {name: {node.module.split(".")[1] + ".py" for node in self.imports(tree)}
+                 for name, tree in self.trees.items()}
+        for again in drawn:
+            drawn = {name: others.union(*[drawn[other] for other in others]) for name, others in drawn.items()}
+        for name, others in drawn.items():
+            self.assertNotIn(name, others)
+
+    def test_each_name_once(self):
+        for name, tree in self.trees.items():
+            imported = [alias.name for node in self.imports(tree) for alias in node.names]
+            top = list(defined_at_top(tree)) + imported
+            self.assertEqual(len(set(top)), len(top), name)
+            classes = [node.name for node in tree.body if isinstance(node, ast.ClassDef)]
+            self.assertEqual(set(bound_in_defs(tree)) & set(imported + classes), set(), name)
+
+    def test_walked_at_once(self):
+        for name, tree in self.trees.items():
+            on_the_spot = list(walked_on_the_spot(tree))
+            for node in ast.walk(tree):
+                if is_walk(node):
+                    self.assertIn(node, on_the_spot, f"{name}:{node.lineno}")
+
+    def test_a_call_alone_stands_by_itself(self):
+        for name, tree in self.trees.items():
+            for node in ast.walk(tree):
+                if isinstance(node, ast.Expr) and node is not tree.body[0]:
+                    self.assertIsInstance(node.value, ast.Call, f"{name}:{node.lineno}")
 
     def test_pythons_own_names(self):
         others = set(dir(builtins)) - OWN_NAMES - {"True", "False", "None"}

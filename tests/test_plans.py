@@ -7,71 +7,9 @@ import unittest
 from fractions import Fraction
 
 from shimright.plans import fits, is_plan, worths
-
-EIGHTY = 10 ** 80 - 1
-TINY = Fraction(1, 10 ** 30)
-ZERO = (0, 1)
-ONE = (1, 1)
-
-
-def pair(number):
-    told = Fraction(number)
-    return (told.numerator, told.denominator)
-
-
-def pairs(*numbers):
-    return [pair(number) for number in numbers]
-
-
-def bounds(*numbers):
-    return [(pair(low), pair(high)) for low, high in numbers]
-
-
-def good_plan():
-    # Sizes x and y, shims s and t: 2x - y + s - 5 and -x/2 - s + t/3 + 4 must not be below 0.
-    return (
-        bounds((1, 4), (Fraction(-1, 2), Fraction(5, 2))),
-        bounds((0, 6), (-3, 3)),
-        [
-            (pairs(2, -1), pairs(1, 0), pair(-5)),
-            (pairs(Fraction(-1, 2), 0), pairs(-1, Fraction(1, 3)), pair(4)),
-        ],
-    )
-
-
-def no_shims():
-    return (bounds((0, 2)), [], [(pairs(1), [], pair(-1))])
-
-
-def no_demands():
-    return (bounds((0, 2), (3, 3)), bounds((-1, 1)), [])
-
-
-def bare():
-    return (bounds((0, 0)), [], [])
-
-
-def places(thing, fits_kind, path=()):
-    """The paths to all parts of thing of which fits_kind holds."""
-    found = [path] if fits_kind(thing) else []
-    if isinstance(thing, (tuple, list)):
-        for k, part in enumerate(thing):
-            found.extend(places(part, fits_kind, path + (k,)))
-    return found
-
-
-def part_at(thing, path):
-    for k in path:
-        thing = thing[k]
-    return thing
-
-
-def replaced(thing, path, part):
-    if path == ():
-        return part
-    parts = list(thing)
-    parts[path[0]] = replaced(parts[path[0]], path[1:], part)
-    return tuple(parts) if isinstance(thing, tuple) else parts
+from tests.helpers import (
+    EIGHTY, ONE, TINY, ZERO, bare, bounds, good_plan, no_demands, no_shims, pair, pairs, part_at, places, replaced,
+)
 
 
 def is_pair_of_ints(thing):

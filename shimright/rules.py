@@ -1,0 +1,78 @@
+"""Rules: the shims told one by one, from sums of the made ones and the shims ahead."""
+
+from shimright.choices import bound_rows
+from shimright.errors import NoChoice
+from shimright.fractions import ZERO, below, opposite, over, plus, times
+from shimright.plans import demand_worth
+
+
+def says_nothing(row):
+    return all([q == ZERO for q in row[0] + row[1]]) and not below(row[2], ZERO)
+
+
+def put_on(rows):
+    # A dict, as rows come in thousands; it keeps the order in which they came.
+    told = {}
+    for row in rows:
+        if not says_nothing(row):
+            told.setdefault((tuple(row[0]), tuple(row[1]), row[2]), row)
+    return list(told.values())
+
+
+def first_rows(plan):
+    rows = [(list(a), list(b), c) for a, b, c in plan[2]]
+    for b, d in bound_rows(plan[1]):
+        rows.append(([ZERO for pair in plan[0]], b, d))
+    return put_on(rows)
+
+
+def mixed(q, one, r, other):
+    return [plus(times(q, x), times(r, y)) for x, y in zip(one, other)]
+
+
+def put_together(low, high, k):
+    q = opposite(high[1][k])
+    r = low[1][k]
+    return (mixed(q, low[0], r, high[0]), mixed(q, low[1], r, high[1]), plus(times(q, low[2]), times(r, high[2])))
+
+
+def taken_out(rows, k):
+    lows = [row for row in rows if below(ZERO, row[1][k])]
+    highs = [row for row in rows if below(row[1][k], ZERO)]
+    told_on = [row for row in rows if row[1][k] == ZERO]
+    for low in lows:
+        told_on.extend([put_together(low, high, k) for high in highs])
+    return (lows, highs, put_on(told_on))
+
+
+def rule_of(plan):
+    rows = first_rows(plan)
+    steps = []
+    for k in range(len(plan[1]) - 1, -1, -1):
+        parts = taken_out(rows, k)
+        steps.append((parts[0], parts[1]))
+        rows = parts[2]
+    return (list(reversed(steps)), rows)
+
+
+def least_let(low, made, ahead):
+    # A sum over the shims ahead alone: it ends where they do, and b of this shim comes just behind.
+    others = demand_worth(low, made, ahead)
+    return over(opposite(others), low[1][len(ahead)])
+
+
+def greatest_of(fractions):
+    greatest = fractions[0]
+    for q in fractions:
+        if below(greatest, q):
+            greatest = q
+    return greatest
+
+
+def chosen_by(rule, made):
+    if any([below(demand_worth(row, made, []), ZERO) for row in rule[1]]):
+        raise NoChoice("the made set has no choice")
+    choice = []
+    for lows, highs in rule[0]:
+        choice.append(greatest_of([least_let(low, made, choice) for low in lows]))
+    return choice
