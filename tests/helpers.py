@@ -105,6 +105,11 @@ def two_shims():
     return written(([(0, 6)], [(0, 3), (0, 3)], demands))
 
 
+def sleeve():
+    # Sizes x and y, a shim s: y - x is just s, so a made set has a choice where y is x at least and x + 1 at most.
+    return written(([(0, 10), (0, 10)], [(0, 1)], [([-1, 1], [-1], 0), ([1, -1], [1], 0)]))
+
+
 def drawing(source, figures):
     """A function that draws numbers whose tops and bottoms have at most so many figures."""
     def draw():
@@ -177,6 +182,28 @@ def corners(plan, made):
         if choice is not None and choice not in found and all(holds(row, choice) for row in rows):
             found.append(choice)
     return found
+
+
+def drawn_parts(source, sizes, counts):
+    """A plan of 2 times so many sizes, and so many ones and others.
+
+    Each of the ones, and of the others, has a worth for each demand; they go together where no sum is below 0.
+    """
+    limits = [(-6, 6)] * (2 * sizes)
+    demands = [([int(j % sizes == k) for j in range(2 * sizes)], [source.choice((0, 1))], 0) for k in range(sizes)]
+    plan = written((limits, [(-1, Fraction(1, 2))], demands))
+
+    def part():
+        # Some few lie out of bounds.
+        return pairs(*[source.choice((-2, -1, 0, 0, 1, 2, Fraction(1, 2), source.randrange(-7, 8))) for k in range(sizes)])
+
+    return plan, [part() for i in range(counts[0])], [part() for j in range(counts[1])]
+
+
+def meets(plan, one, other):
+    """Whether both go together, by another way."""
+    within = all(low <= q <= high for q, (low, high) in zip(read(one + other), read(plan[0])))
+    return within and corners(plan, one + other) != []
 
 
 def lists_in(thing):
