@@ -6,8 +6,12 @@ from shimright.plans import demand_worth, within_bounds
 from shimright.rules import rule_of
 
 
+def worst_end(q, pair):
+    return pair[1] if below(q, ZERO) else pair[0]
+
+
 def worst(plan, row):
-    made = [pair[1] if below(q, ZERO) else pair[0] for q, pair in zip(row[0], plan[0])]
+    made = [worst_end(q, pair) for q, pair in zip(row[0], plan[0])]
     return (demand_worth(row, made, []), made)
 
 

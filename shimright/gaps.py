@@ -2,7 +2,7 @@
 
 from shimright.choices import rows_of
 from shimright.fractions import ZERO, opposite
-from shimright.plans import demand_worth, within_bounds
+from shimright.plans import copied, demand_worth, within_bounds
 from shimright.tables import choice_at, settled, sunk, table_at_lows
 
 
@@ -30,8 +30,7 @@ def gap_demands(plan, chain, least, greatest):
 
 
 def with_demands(plan, demands):
-    both = [(list(a), list(b), c) for a, b, c in plan[2] + demands]
-    return (list(plan[0]), list(plan[1]), both)
+    return copied((plan[0], plan[1], plan[2] + demands))
 
 
 def worth_and_choice(tops, made, table):

@@ -41,6 +41,14 @@ def is_plan(thing):
     return all([is_demand(demand, size_count, shim_count) for demand in thing[2]])
 
 
+def copied_rows(rows):
+    return [(list(a), list(b), c) for a, b, c in rows]
+
+
+def copied(plan):
+    return (list(plan[0]), list(plan[1]), copied_rows(plan[2]))
+
+
 def is_between(q, low, high):
     return not below(q, low) and not below(high, q)
 

@@ -3,7 +3,7 @@
 from shimright.choices import bound_rows
 from shimright.errors import NoChoice
 from shimright.fractions import ZERO, below, opposite, over, plus, times
-from shimright.plans import demand_worth
+from shimright.plans import copied_rows, demand_worth
 
 
 def says_nothing(row):
@@ -19,11 +19,12 @@ def put_on(rows):
     return list(told.values())
 
 
+def shim_rows(plan):
+    return [([ZERO for pair in plan[0]], b, d) for b, d in bound_rows(plan[1])]
+
+
 def first_rows(plan):
-    rows = [(list(a), list(b), c) for a, b, c in plan[2]]
-    for b, d in bound_rows(plan[1]):
-        rows.append(([ZERO for pair in plan[0]], b, d))
-    return put_on(rows)
+    return put_on(copied_rows(plan[2]) + shim_rows(plan))
 
 
 def mixed(q, one, r, other):
@@ -55,10 +56,9 @@ def rule_of(plan):
     return (list(reversed(steps)), rows)
 
 
-def least_let(low, made, ahead):
-    # A sum over the shims ahead alone: it ends where they do, and b of this shim comes just behind.
-    others = demand_worth(low, made, ahead)
-    return over(opposite(others), low[1][len(ahead)])
+def least_let(low, k, made, others):
+    # Others tells the shims beside k: it ends ahead of k, or is 0 there, so that b of k has no part in the sum.
+    return over(opposite(demand_worth(low, made, others)), low[1][k])
 
 
 def greatest_of(fractions):
@@ -74,5 +74,5 @@ def chosen_by(rule, made):
         raise NoChoice("the made set has no choice")
     choice = []
     for lows, highs in rule[0]:
-        choice.append(greatest_of([least_let(low, made, choice) for low in lows]))
+        choice.append(greatest_of([least_let(low, len(choice), made, choice) for low in lows]))
     return choice

@@ -193,9 +193,12 @@ def drawn_parts(source, sizes, counts):
     demands = [([int(j % sizes == k) for j in range(2 * sizes)], [source.choice((0, 1))], 0) for k in range(sizes)]
     plan = written((limits, [(-1, Fraction(1, 2))], demands))
 
-    def part():
+    def draw():
         # Some few lie out of bounds.
-        return pairs(*[source.choice((-2, -1, 0, 0, 1, 2, Fraction(1, 2), source.randrange(-7, 8))) for k in range(sizes)])
+        return source.choice((-2, -1, 0, 0, 1, 2, Fraction(1, 2), source.randrange(-7, 8)))
+
+    def part():
+        return pairs(*[draw() for k in range(sizes)])
 
     return plan, [part() for i in range(counts[0])], [part() for j in range(counts[1])]
 

@@ -128,7 +128,9 @@ class HowManyTest(unittest.TestCase):
         self.assert_many(of_sizes((Fraction(1, 2), 20000 + TINY)), 20000, 20000)
         self.assert_many(of_sizes((1, 2), (1, 100), (-50, 49)), 20000, 20000)
         self.assert_many(of_sizes((7, 7), (EIGHTY - 19999, EIGHTY), (7, 7)), 20000, 20000)
-        self.assert_many(written(([(1, 100), (1, 200)], [(0, 50)], [([-1, 1], [1], 0), ([1, -1], [0], 0)])), 3825, 20000)
+        # Just where y is from x - 50 to x.
+        plan = written(([(1, 100), (1, 200)], [(0, 50)], [([-1, 1], [1], 0), ([1, -1], [0], 0)]))
+        self.assert_many(plan, 3825, 20000)
 
     def test_more_than_twenty_thousand(self):
         for plan in TOO_MANY:
