@@ -6,6 +6,7 @@ Spans, one for each size, stand for all whole made sets whose tops are within th
 
 from shimright.errors import NoChoice, NoNumber, TooMany
 from shimright.gaps import all_whole, reach
+from shimright.tables import scale_of, whole_line
 
 MOST_SETS = 20000
 
@@ -50,9 +51,15 @@ def tops_within(spans):
     return told
 
 
+def whole_demand(a, b, c):
+    # Taken so often that all of it is whole it asks for the same, and sums of whole numbers are soon told.
+    scale = scale_of(a + b + [c])
+    return (all_whole(whole_line(a, scale)), all_whole(whole_line(b, scale)), (whole_line([c], scale)[0], 1))
+
+
 def with_size_chosen(plan, k, span):
     shims = [((span[0], 1), (span[1], 1))] + plan[1]
-    demands = [(left_out(a, k), [a[k]] + b, c) for a, b, c in plan[2]]
+    demands = [whole_demand(left_out(a, k), [a[k]] + b, c) for a, b, c in plan[2]]
     return (left_out(plan[0], k), shims, demands)
 
 

@@ -161,6 +161,21 @@ class HowManyTest(unittest.TestCase):
         plan = written(([(0, 9)], [(0, Fraction(3, top))], [([Fraction(1, top)], [1], Fraction(-5, top))]))
         self.assert_many(plan, 8, 10)
 
+    def test_long_fractions(self):
+        source = random.Random(40)
+
+        def draw():
+            return Fraction(source.randrange(-10 ** 40, 10 ** 40), source.randrange(10 ** 39, 10 ** 40))
+
+        seen = set()
+        for again in range(20):
+            demands = [([draw() for k in range(3)], [draw() for k in range(2)], 5 * draw()) for j in range(4)]
+            plan = written(([(0, 2), (-1, 2), (-2, 0)], [(-1, draw() ** 2), (0, Fraction(1, 3))], demands))
+            good = len(good_sets(plan))
+            self.assert_many(plan, good, 36)
+            seen.add(good)
+        self.assertGreater(len(seen), 4)
+
     def test_what_is_handed_in_stays_as_it_was(self):
         for make in WRITTEN_OUT:
             check_own(self, how_many, make())
